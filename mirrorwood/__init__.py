@@ -1,0 +1,1 @@
+"""Mirrorwood: cards that turn their neighbours as they go."""

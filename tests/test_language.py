@@ -1,0 +1,69 @@
+"""The rules of ../shared/LANGUAGE.md that can be read off the files plainly."""
+
+import ast
+import re
+import unittest
+from pathlib import Path
+
+PACKAGE = Path(__file__).resolve().parent.parent / "mirrorwood"
+FILES = sorted(path for path in PACKAGE.iterdir() if path.name != "__pycache__")
+BUILTINS = {
+    "len", "range", "enumerate", "zip", "min", "max", "sum", "abs", "sorted", "reversed", "int", "str", "bool",
+    "list", "tuple", "dict", "set", "isinstance", "ord", "repr", "any", "all", "divmod", "ValueError", "KeyError",
+    "IndexError", "LookupError", "RuntimeError", "iter", "next",
+}
+BARRED = (
+    "type typing typing_extensions enum Enum IntEnum StrEnum Flag IntFlag Generic Protocol ABC ABCMeta namedtuple "
+    "NamedTuple TypedDict TYPE_CHECKING abstractmethod"
+).split()
+
+
+class Language(unittest.TestCase):
+    def each(self):
+        for path in FILES:
+            yield path.name, path.read_text(encoding="utf-8")
+
+    def test_the_folder_has_plain_files_alone(self):
+        self.assertIn("__init__.py", [path.name for path in FILES])
+        for path in FILES:
+            self.assertRegex(path.name, r"^[a-z][a-z0-9_]*\.py$|^__init__\.py$")
+
+    def test_sizes(self):
+        for name, text in self.each():
+            rows = text.split("\n")
+            self.assertLessEqual(len(rows), 400, name)
+            self.assertLessEqual(max(map(len, rows)), 120, name)
+            for node in ast.walk(ast.parse(text)):
+                if isinstance(node, ast.FunctionDef):
+                    self.assertLessEqual(node.end_lineno - node.lineno + 1, 40, (name, node.name))
+
+    def test_signs_and_words(self):
+        for name, text in self.each():
+            self.assertRegex(text, r"\A[ -~\n]*\Z", name)
+            found = re.findall(r"\w+", text)
+            self.assertEqual([word for word in BARRED if word in found], [], name)
+            self.assertIsNone(re.search("dataclass|overload|contextmanager", text), name)
+
+    def test_imports_are_of_the_package_by_full_names(self):
+        for name, text in self.each():
+            for node in ast.walk(ast.parse(text)):
+                self.assertNotIsInstance(node, ast.Import, name)
+                if isinstance(node, ast.ImportFrom):
+                    self.assertEqual(node.level, 0, name)
+                    self.assertTrue(node.module.startswith("mirrorwood."), name)
+                    self.assertNotIn("*", [part.name for part in node.names], name)
+
+    def test_no_name_is_unknown_or_a_builtin_that_is_not_listed(self):
+        for name, text in self.each():
+            nodes = list(ast.walk(ast.parse(text)))
+            known = {node.name for node in nodes if isinstance(node, (ast.FunctionDef, ast.ClassDef))}
+            known |= {part.name for node in nodes if isinstance(node, ast.ImportFrom) for part in node.names}
+            known |= {node.arg for node in nodes if isinstance(node, ast.arg)}
+            known |= {node.id for node in nodes if isinstance(node, ast.Name) and isinstance(node.ctx, ast.Store)}
+            used = {node.id for node in nodes if isinstance(node, ast.Name) and isinstance(node.ctx, ast.Load)}
+            self.assertEqual(sorted(used - known - BUILTINS), [], name)
+            self.assertEqual(sorted(known & BUILTINS), [], name)
+
+
+if __name__ == "__main__":
+    unittest.main()
