@@ -1,6 +1,7 @@
 """The rules of ../shared/LANGUAGE.md that can be read off the files plainly."""
 
 import ast
+import builtins
 import re
 import unittest
 from pathlib import Path
@@ -63,6 +64,28 @@ class Language(unittest.TestCase):
             used = {node.id for node in nodes if isinstance(node, ast.Name) and isinstance(node.ctx, ast.Load)}
             self.assertEqual(sorted(used - known - BUILTINS), [], name)
             self.assertEqual(sorted(known & BUILTINS), [], name)
+
+    def test_no_local_name_is_an_import_a_class_or_a_builtin(self):
+        for name, text in self.each():
+            nodes = list(ast.walk(ast.parse(text)))
+            fixed = {node.name for node in nodes if isinstance(node, ast.ClassDef)} | set(dir(builtins))
+            fixed |= {part.name for node in nodes if isinstance(node, ast.ImportFrom) for part in node.names}
+            local = {node.arg for node in nodes if isinstance(node, ast.arg)}
+            local |= {node.id for node in nodes if isinstance(node, ast.Name) and isinstance(node.ctx, ast.Store)}
+            self.assertEqual(sorted(fixed & local), [], name)
+
+    def test_each_import_is_used_and_of_the_file_that_defines_it(self):
+        texts = dict(self.each())
+        for name, text in texts.items():
+            nodes = list(ast.walk(ast.parse(text)))
+            used = {node.id for node in nodes if isinstance(node, ast.Name) and isinstance(node.ctx, ast.Load)}
+            for node in nodes:
+                if isinstance(node, ast.ImportFrom):
+                    other = texts[node.module.split(".")[1] + ".py"]
+                    defined = {part.name for part in ast.parse(other).body if hasattr(part, "name")}
+                    wanted = {part.name for part in node.names}
+                    self.assertEqual(sorted(wanted - defined), [], name)
+                    self.assertEqual(sorted(wanted - used), [], name)
 
 
 if __name__ == "__main__":

@@ -1,6 +1,8 @@
 """Things of every kind, and small woods, that several tests ask about."""
 
-from itertools import combinations
+from copy import deepcopy
+from itertools import combinations, islice, permutations, product
+from random import Random
 
 ODD_THINGS = [
     None, True, False, 0, 1, -1, 7, 61, "", "a", "abc", "light",
@@ -49,14 +51,220 @@ def is_wood(names, pairs):
     return len({tuple(sorted(sets[name])) for name in names}) == len(names) - len(pairs)
 
 
-def sets_of_pairs():
-    """All sets of ties of the four names, as rising lists of rising pairs."""
-    every = list(combinations(FOUR, 2))
+def sets_of_pairs(names=FOUR):
+    """All sets of ties of these names, as rising lists of rising pairs."""
+    every = list(combinations(names, 2))
     for many in range(len(every) + 1):
         for pairs in combinations(every, many):
             yield list(pairs)
 
 
-def woods():
-    """All sets of ties of the four names that close no ring."""
-    return [pairs for pairs in sets_of_pairs() if is_wood(FOUR, pairs)]
+def woods(names=FOUR):
+    """All sets of ties of these names that close no ring."""
+    return [pairs for pairs in sets_of_pairs(names) if is_wood(names, pairs)]
+
+
+def all_halls(names, wheel, numbers):
+    """All halls of these names with these numbers and mirrors."""
+    cards = list(product((0, 1), numbers))
+    for pairs in woods(names):
+        for mirrors in product(numbers, repeat=len(pairs)):
+            ties = tuple((one, other, mirror) for (one, other), mirror in zip(pairs, mirrors))
+            for row in product(cards, repeat=len(names)):
+                yield (wheel, tuple((name, *card) for name, card in zip(names, row)), ties)
+
+
+def small_halls(step=7):
+    """All halls of few places and numbers, without a wheel and with some; of the two longest rows each step-th."""
+    for many in range(3):
+        yield from all_halls(FOUR[:many], 0, (-1, 0, 2))
+    yield from all_halls(FOUR[:3], 0, (0, 1))
+    yield from all_halls(FOUR[:3], 2, (0, 1))
+    yield from islice(all_halls(FOUR[:3], 3, (0, 1, 2)), 0, None, step)
+    yield from all_halls(FOUR, 1, (0,))
+    yield from islice(all_halls(FOUR, 2, (0, 1)), 0, None, step)
+
+
+def neighbours(hall, name):
+    """Of each neighbour the mirror."""
+    found = {}
+    for one, other, mirror in hall[2]:
+        if name in (one, other):
+            found[other if one == name else one] = mirror
+    return found
+
+
+def on_wheel(wheel, number):
+    return number % wheel if wheel else number
+
+
+def ways_by_trying(hall):
+    """All ways home, rising, by trying all rows of goings on a plain dict of cards."""
+    def tries(cards, row):
+        if not cards:
+            found.append(row)
+        for name in sorted(cards):
+            if cards[name] == (1, 0):
+                left = {other: card for other, card in cards.items() if other != name}
+                for other, mirror in tied[name].items():
+                    if other in left:
+                        face, number = left[other]
+                        left[other] = (1 - face, on_wheel(hall[0], mirror - number))
+                tries(left, row + [name])
+
+    found = []
+    tied = {name: neighbours(hall, name) for name, face, number in hall[1]}
+    tries({name: (face, number) for name, face, number in hall[1]}, [])
+    return found
+
+
+def piece_by_joining(hall, name, cut=()):
+    """The names of all that hang together with this one, the tie of the two that are cut left out."""
+    names = [place[0] for place in hall[1]]
+    return sorted(joined(names, [tie[:2] for tie in hall[2] if set(tie[:2]) != set(cut)])[name])
+
+
+def is_odd_by_counting(hall, names):
+    return len([place for place in hall[1] if place[0] in names and place[1] == 1]) % 2 == 1
+
+
+def earlier_by_sides(hall, name):
+    """Its earlier ones by the words of the document: those whose side is odd."""
+    if not is_odd_by_counting(hall, piece_by_joining(hall, name)):
+        return []
+    sides = {other: piece_by_joining(hall, other, (other, name)) for other in sorted(neighbours(hall, name))}
+    return [other for other in sides if is_odd_by_counting(hall, sides[other])]
+
+
+def orders_by_trying(hall, name):
+    """All orders of its earlier ones behind which its card is free, rising."""
+    if not is_odd_by_counting(hall, piece_by_joining(hall, name)):
+        return []
+    mirrors = neighbours(hall, name)
+    start = {place[0]: place[1:] for place in hall[1]}[name]
+    found = []
+    for row in permutations(earlier_by_sides(hall, name)):
+        face, number = start
+        for other in row:
+            face, number = 1 - face, on_wheel(hall[0], mirrors[other] - number)
+        if (face, number) == (1, 0):
+            found.append(list(row))
+    return found
+
+
+def seatings_by_trying(hall, name):
+    return sorted({tuple(sorted(row[::2])) for row in orders_by_trying(hall, name)})
+
+
+def bars_by_trying(hall):
+    names = [place[0] for place in hall[1]]
+    found = {name: piece_by_joining(hall, name) for name in names}
+    odd = {name: is_odd_by_counting(hall, found[name]) for name in names}
+    even = [("even", found[name]) for name in names if not odd[name] and found[name][0] == name]
+    return even + [("seats", name) for name in names if odd[name] and not orders_by_trying(hall, name)]
+
+
+def hall_with_way(chance, many, wheel, most=6, shares=(0, 1, 1, 2, 3, 6)):
+    """A hall, and a way home of it: built from the last going to the first, each undone in turn."""
+    names = sorted(chance.sample(["x" + one + two for one in "abcdef" for two in "abcdef"], many))
+    chance.shuffle(names)
+    cards, ties, heads = {}, [], {}
+    ends = dict.fromkeys(names, 0)
+    for name in names:
+        others = {}
+        for other in sorted(cards, key=lambda other: chance.random()):
+            if ends[other] < most:
+                others.setdefault(heads[other], other)
+        cards[name], heads[name] = (1, 0), name
+        for head, other in list(others.items())[:min(most, chance.choice(shares))]:
+            mirror = chance.randrange(-3, 4)
+            ties.append((*sorted([name, other]), on_wheel(wheel, mirror)))
+            face, number = cards[other]
+            cards[other] = (1 - face, on_wheel(wheel, mirror - number))
+            ends[name], ends[other] = ends[name] + 1, ends[other] + 1
+            heads = {place: name if heads[place] == head else heads[place] for place in heads}
+    hall = (wheel, tuple(sorted((name, *cards[name]) for name in names)), tuple(sorted(ties)))
+    return hall, names[::-1]
+
+
+def some_halls(seed, rounds, sizes):
+    """Pairs of halls and ways home of them, the same ones each time."""
+    chance = Random(seed)
+    for turn in range(rounds):
+        yield hall_with_way(chance, chance.choice(sizes), chance.choice((0, 1, 2, 3, 7, 60)))
+
+
+def star(wheel, number, mirrors):
+    """An odd piece: the place m that shows this number, tied by these mirrors to a, b, c, x, y, z, all earlier ones."""
+    around = "abcxyz"[:len(mirrors)]
+    places = [("m", 1 - len(mirrors) % 2, number)] + [(name, 1, 0) for name in around]
+    ties = [(*sorted(["m", name]), mirror) for name, mirror in zip(around, mirrors)]
+    return (wheel, tuple(sorted(places)), tuple(sorted(ties)))
+
+
+def big_halls():
+    """Halls of 24 places: all goings free; none free; woods with places of 6 ties, with a way home and without."""
+    letters = "abcdefghijklmnopqrstuvwx"
+    # A row of five places, four of them of six ties each, with all others around them.
+    spine = [("a", "b"), ("b", "c"), ("c", "d"), ("d", "e")]
+    pairs = sorted(spine + list(zip("aaaaabbbbccccddddee", letters[5:])))
+    for wheel in (0, 1, 7, 60):
+        for face in (0, 1):
+            for number in sorted({0, on_wheel(wheel, -1)}):
+                places = tuple((name, face, number) for name in letters)
+                yield (wheel, places, ())
+                yield (wheel, places, tuple((*pair, on_wheel(wheel, at)) for at, pair in enumerate(pairs)))
+                yield (wheel, places, tuple((low, high, 0) for low, high in zip(letters, letters[1:])))
+    for hall, row in some_halls(24, 30, (24,)):
+        yield hall
+        yield (hall[0], ((hall[1][0][0], 1 - hall[1][0][1], hall[1][0][2]),) + hall[1][1:], hall[2])
+
+
+def spoilt(told):
+    """Changes all lists of what was told, at any depth."""
+    if isinstance(told, (list, tuple)):
+        for part in told:
+            spoilt(part)
+    if isinstance(told, list):
+        told.append("spoilt")
+
+
+def lists_within(told):
+    """All lists of what was told, at any depth, itself among them."""
+    if isinstance(told, list):
+        yield told
+    if isinstance(told, (list, tuple)):
+        for part in told:
+            yield from lists_within(part)
+
+
+class OwnAnswers:
+    """For a TestCase with ASKS, pairs of functions and what they are handed: whose are the lists that they tell."""
+
+    def test_a_told_list_changed_changes_no_later_answer(self):
+        for ask, handed in self.ASKS:
+            first = ask(*handed)
+            wanted = deepcopy(first)
+            spoilt(first)
+            self.assertEqual(ask(*handed), wanted, ask)
+
+    def test_no_two_told_lists_are_one(self):
+        told = [ask(*handed) for ask, handed in self.ASKS for again in range(2)]
+        lists = list(lists_within(told))
+        self.assertEqual(len({id(row) for row in lists}), len(lists))
+        handed = [id(row) for ask, handed in self.ASKS for row in lists_within(handed)]
+        self.assertEqual([row for row in lists if id(row) in handed], [])
+
+    def test_what_is_handed_in_stays(self):
+        for ask, handed in self.ASKS:
+            wanted = deepcopy(handed)
+            ask(*handed)
+            self.assertEqual(handed, wanted, ask)
+
+    def test_arguments_by_their_names(self):
+        for ask, handed in self.ASKS:
+            names = self.NAMES[ask.__name__].split()
+            self.assertEqual(ask(**dict(reversed(list(zip(names, handed, strict=True))))), ask(*handed), ask)
+
+    def test_each_name_is_asked_for(self):
+        self.assertEqual({ask.__name__ for ask, handed in self.ASKS}, set(self.NAMES))

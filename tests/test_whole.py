@@ -1,0 +1,93 @@
+"""What is promised over the whole: point [1], (a), (b), (c)."""
+
+import unittest
+from itertools import permutations
+
+from mirrorwood.arrows import arrows, earlier, faced, is_odd
+from mirrorwood.errors import MayNot, NoWay
+from mirrorwood.goings import behind, gone, is_way, may_go
+from mirrorwood.halls import pieces
+from mirrorwood.home import bars, good, shows_bar, way_home, why_not
+from mirrorwood.seats import is_order, seatings
+from things import all_halls, small_halls, some_halls, ways_by_trying
+
+
+def keeps_to_it(hall, row):
+    """Whether a row of all names goes by the arrows, each place's earlier ones in a good order."""
+    at = {name: turn for turn, name in enumerate(row)}
+    if any(at[first] > at[second] for first, second in arrows(hall)):
+        return False
+    return all(is_order(hall, name, [other for other in row if other in earlier(hall, name)]) for name in row)
+
+
+class Whole(unittest.TestCase):
+    def halls(self):
+        yield from small_halls(13)
+        yield from (hall for hall, row in some_halls(19, 40, (4, 5)))
+
+    def test_a_way_home_just_where_pieces_are_odd_and_seatings_good(self):
+        for hall in self.halls():
+            names = [place[0] for place in hall[1]]
+            wanted = all(is_odd(hall, piece) for piece in pieces(hall)) and all(seatings(hall, name) for name in names)
+            self.assertEqual(bool(ways_by_trying(hall)), wanted)
+            self.assertEqual(way_home(hall) is not None, wanted)
+            self.assertEqual(bars(hall) == [], wanted)
+            self.assertTrue(all(shows_bar(hall, bar) for bar in bars(hall)))
+
+    def test_b_the_arrows_tell_the_faces(self):
+        for hall in self.halls():
+            if way_home(hall) is not None:
+                self.assertEqual(len(arrows(hall)), len(hall[2]))
+                self.assertEqual(faced(hall, arrows(hall)), hall)
+
+    def test_b_faces_alone_tell_who_goes_first(self):
+        told = {}
+        for hall in all_halls(["a", "b", "c"], 3, (0, 1, 2)):
+            faces = tuple(place[:2] for place in hall[1])
+            told.setdefault((faces, tuple(tie[:2] for tie in hall[2])), []).append(hall)
+        for halls in told.values():
+            self.assertEqual(len({str(arrows(hall)) for hall in halls}), 1)
+
+    def test_c_the_ways_home_are_just_the_rows_that_keep_to_it(self):
+        for hall in self.halls():
+            if not all(is_odd(hall, piece) for piece in pieces(hall)):
+                continue
+            ways = ways_by_trying(hall)
+            for row in permutations([place[0] for place in hall[1]]):
+                self.assertEqual(keeps_to_it(hall, row), list(row) in ways, (hall, row))
+
+    def test_c_whoever_keeps_to_good_goings_is_never_stuck(self):
+        for hall, row in some_halls(23, 25, (5, 6)):
+            self.never_stuck(hall)
+
+    def never_stuck(self, hall):
+        for name in may_go(hall):
+            left = gone(hall, name)
+            self.assertEqual(why_not(hall, name) is None, name in good(hall))
+            if name in good(hall):
+                self.assertTrue(good(left) or not left[1])
+                self.never_stuck(left)
+            else:
+                self.assertEqual(ways_by_trying(left), [])
+                self.assertRaises(NoWay, why_not, left, left[1][0][0])
+
+    def test_c_whoever_does_not_once_never_comes_home(self):
+        for hall, row in some_halls(29, 20, (24,)):
+            for at, name in enumerate(row):
+                self.assertIsNone(why_not(hall, name))
+                for other in may_go(hall):
+                    if other not in good(hall):
+                        self.assertIs(is_way(hall, [other, *[left for left in row[at:] if left != other]]), False)
+                        self.assertIsNone(way_home(gone(hall, other)))
+                hall = gone(hall, name)
+
+    def test_what_is_refused_is_refused_by_its_own_class(self):
+        for hall in self.halls():
+            for name, face, number in hall[1]:
+                if (face, number) != (1, 0):
+                    self.assertRaises(MayNot, gone, hall, name)
+                    self.assertRaises(MayNot, behind, hall, [name])
+
+
+if __name__ == "__main__":
+    unittest.main()
