@@ -48,7 +48,7 @@ class Home(unittest.TestCase):
         return ways
 
     def test_all_small_halls(self):
-        found = [len(self.tells_as_tried(hall)) for hall in small_halls(2)]
+        found = [len(self.tells_as_tried(hall)) for hall in small_halls(1)]
         self.assertGreater(found.count(0), 1000)
         self.assertGreater(len(found) - found.count(0), 500)
         self.assertEqual(max(found), 24)
