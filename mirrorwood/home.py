@@ -46,11 +46,16 @@ def good_goings(hall):
     return [name for name in may_go(hall) if hindrance(hall, ahead, seats, name) is None]
 
 
-def why_not(hall, name):
-    """Why its going isn't good; None where it is."""
+def refuse_barred(hall):
+    """Refuses a hall that has no way home, with its first bar."""
     barred = bars(hall)
     if barred:
         raise NoWay(barred[0])
+
+
+def why_not(hall, name):
+    """Why its going isn't good; None where it is."""
+    refuse_barred(hall)
     return hindrance(hall, all_earlier(hall), all_seatings(hall), name)
 
 

@@ -74,6 +74,22 @@ class Language(unittest.TestCase):
             local |= {node.id for node in nodes if isinstance(node, ast.Name) and isinstance(node.ctx, ast.Store)}
             self.assertEqual(sorted(fixed & local), [], name)
 
+    def test_no_generators_and_no_sort(self):
+        for name, text in self.each():
+            for node in ast.walk(ast.parse(text)):
+                self.assertNotIsInstance(node, (ast.GeneratorExp, ast.Yield, ast.YieldFrom, ast.Global, ast.Match), name)
+                if isinstance(node, ast.Attribute):
+                    self.assertNotEqual(node.attr, "sort", name)
+
+    def test_no_ring_of_imports(self):
+        texts = dict(self.each())
+        left = {name: {node.module.split(".")[1] + ".py" for node in ast.walk(ast.parse(text))
+                       if isinstance(node, ast.ImportFrom)} for name, text in texts.items()}
+        while left:
+            ends = [name for name in left if not left[name] & set(left)]
+            self.assertNotEqual(ends, [], sorted(left))
+            left = {name: left[name] for name in left if name not in ends}
+
     def test_each_import_is_used_and_of_the_file_that_defines_it(self):
         texts = dict(self.each())
         for name, text in texts.items():

@@ -1,15 +1,19 @@
-"""What is promised over the whole: point [1], (a), (b), (c)."""
+"""What is promised over the whole: point [1], (a) to (e), and of (f) the cards laid anew."""
 
 import unittest
 from itertools import permutations
 
 from mirrorwood.arrows import arrows, earlier, faced, is_odd
+from mirrorwood.counts import number_of, way_at, ways
 from mirrorwood.errors import MayNot, NoWay
 from mirrorwood.goings import behind, gone, is_way, may_go
 from mirrorwood.halls import pieces
 from mirrorwood.home import bars, good, shows_bar, way_home, why_not
+from mirrorwood.likeness import parting, same_ways, signs
+from mirrorwood.mending import least_laid, shows_laid
 from mirrorwood.seats import is_order, seatings
-from things import all_halls, small_halls, some_halls, ways_by_trying
+from mirrorwood.turns import latest, soonest
+from things import all_halls, halls_by_arrows, small_halls, some_halls, ways_by_trying
 
 
 def keeps_to_it(hall, row):
@@ -80,6 +84,43 @@ class Whole(unittest.TestCase):
                         self.assertIs(is_way(hall, [other, *[left for left in row[at:] if left != other]]), False)
                         self.assertIsNone(way_home(gone(hall, other)))
                 hall = gone(hall, name)
+
+    def test_d_each_turn_that_is_told_is_gone_at_and_none_beyond(self):
+        for hall in [*self.halls(), *halls_by_arrows(191, 40, (4, 5, 6))]:
+            rows = ways_by_trying(hall)
+            self.assertEqual(ways(hall), len(rows))
+            for name, face, number in hall[1]:
+                if not rows:
+                    self.assertRaises(NoWay, soonest, hall, name)
+                    self.assertRaises(NoWay, latest, hall, name)
+                    continue
+                turns = {row.index(name) + 1 for row in rows}
+                self.assertEqual((soonest(hall, name)[0], latest(hall, name)[0]), (min(turns), max(turns)))
+                self.assertEqual(soonest(hall, name)[0] == 1, name in good(hall))
+                for turn, row in (soonest(hall, name), latest(hall, name)):
+                    self.assertEqual(row[turn - 1], name)
+                    self.assertEqual(way_at(hall, number_of(hall, row)), row)
+
+    def test_e_the_same_ways_just_where_arrows_and_seatings_are_the_same(self):
+        told = {}
+        for hall in all_halls(["a", "b", "c"], 2, (0, 1)):
+            if way_home(hall) is not None:
+                told.setdefault(tuple(tie[:2] for tie in hall[2]), []).append(hall)
+        for halls in told.values():
+            for one in halls[::3]:
+                for two in halls[::5]:
+                    same = ways_by_trying(one) == ways_by_trying(two)
+                    self.assertEqual((signs(one) == signs(two), same_ways(one, two)), (same, same))
+                    self.assertEqual(parting(one, two) is None, same)
+
+    def test_f_no_less_than_the_least_price_of_cards_laid_anew(self):
+        for hall in self.halls():
+            prices = [(name, at + 1) for at, (name, face, number) in enumerate(hall[1])]
+            price, other, table = least_laid(hall, prices)
+            self.assertIsNotNone(way_home(other))
+            self.assertEqual(price == 0, way_home(hall) is not None)
+            self.assertIs(shows_laid(hall, prices, price, table), True)
+            self.assertIs(shows_laid(hall, prices, price + 1, table), False)
 
     def test_what_is_refused_is_refused_by_its_own_class(self):
         for hall in self.halls():

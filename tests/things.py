@@ -13,6 +13,7 @@ ODD_THINGS = [
 ]
 
 FOUR = ["a", "b", "c", "d"]
+LETTERS = "abcdefghijklmnopqrstuvwx"
 
 
 def with_lists_for_tuples(thing):
@@ -194,6 +195,100 @@ def some_halls(seed, rounds, sizes):
         yield hall_with_way(chance, chance.choice(sizes), chance.choice((0, 1, 2, 3, 7, 60)))
 
 
+def hall_by_arrows(chance, many, wheel, mirrors, most=6, pieces=0.1):
+    """A hall with a way home: each tie an arrow either way about, each number by one seating of those ahead."""
+    names = chance.sample(LETTERS, many)
+    ties, ahead = {}, {name: [] for name in names}
+    for at, name in enumerate(names):
+        free = [other for other in names[:at] if len([pair for pair in ties if other in pair]) < most]
+        if free and chance.random() >= pieces:
+            first, second = chance.sample([name, chance.choice(free)], 2)
+            ties[first, second] = on_wheel(wheel, chance.choice(mirrors))
+            ahead[second].append(first)
+    places = []
+    for name in names:
+        worth = [ties[other, name] for other in chance.sample(ahead[name], len(ahead[name]))]
+        odd = (len(worth) + 1) // 2
+        places.append((name, 1 - len(worth) % 2, on_wheel(wheel, sum(worth[:odd]) - sum(worth[odd:]))))
+    return (wheel, tuple(sorted(places)), tuple(sorted((*sorted(pair), ties[pair]) for pair in ties)))
+
+
+def halls_by_arrows(seed, rounds, sizes):
+    """Such halls, the same ones each time: with mirrors that leave one seating, few, or all of them good."""
+    chance = Random(seed)
+    for turn in range(rounds):
+        mirrors = chance.choice([(1, 2, 4, 8, 16, 32, 64, 128), (0, 1, 3), (-2, 2, 5), (0,)])
+        yield hall_by_arrows(chance, chance.choice(sizes), chance.choice((0, 0, 2, 5, 60)), mirrors,
+                             chance.choice((2, 3, 6)), chance.choice((0, 0, 0.2)))
+
+
+def zigzag(many):
+    """A road x0 - l1 - x1 - l2 - ..: at each l the x behind it on the road must go ahead of the x ahead of it."""
+    xs = ["x" + LETTERS[at] for at in range(many + 1)]
+    ls = ["l" + LETTERS[at] for at in range(many)]
+    places = [(name, 1, 0) for name in xs] + [(name, 1, 2) for name in ls]
+    ties = [(ls[at], xs[at], 1) for at in range(many)] + [(ls[at], xs[at + 1], 3) for at in range(many)]
+    return (0, tuple(sorted(places)), tuple(sorted(ties))), xs, ls
+
+
+def hangs_by_words(hall):
+    """Of each name the one that it hangs by, None of the least one of its piece."""
+    told = {}
+    for name, face, number in hall[1]:
+        root = piece_by_joining(hall, name)[0]
+        told[name] = None
+        for other in neighbours(hall, name):
+            if name != root and root in piece_by_joining(hall, other, (name, other)):
+                told[name] = other
+    return told
+
+
+def fits_by_words(hall, name, others):
+    """Whether its card fits this set of its neighbours."""
+    face, number = {place[0]: place[1:] for place in hall[1]}[name]
+    mirrors = neighbours(hall, name)
+    many = len(others) // 2 if len(others) % 2 == 0 else len(others) // 2 + 1
+    sums = [sum(mirrors[other] if other in some else -mirrors[other] for other in others)
+            for some in combinations(others, many)]
+    return (face == 1) == (len(others) % 2 == 0) and number in [on_wheel(hall[0], found) for found in sums]
+
+
+def subsets(names):
+    return [some for many in range(len(names) + 1) for some in combinations(names, many)]
+
+
+def some_prices(chance, hall):
+    """Pairs (name, price) in any order: all alike, great ones, many noughts."""
+    names = [place[0] for place in hall[1]]
+    kind = chance.choice([(1,), (0,), (0, 1), (1, 2, 3, 5), (0, 0, 7), (999999, 1000000), (0, 1, 1000000)])
+    return [(name, chance.choice(kind)) for name in chance.sample(names, len(names))]
+
+
+def tables_like(table, numbers):
+    """Copies of a told table with one thing of it made another: (the copy, whether it's still written as one)."""
+    for at, row in enumerate(table):
+        ahead, behind = table[:at], table[at + 1:]
+        for part in range(1, len(row)):
+            for other in numbers(row[part]):
+                yield ahead + [row[:part] + (other,) + row[part + 1:]] + behind, True
+            for other in (True, False, "", "1", [], (), (1,), [1], "None"):
+                yield ahead + [row[:part] + (other,) + row[part + 1:]] + behind, False
+        yield ahead + behind, False
+        yield ahead + [row, row] + behind, False
+        yield ahead + behind + [row], not behind
+        yield ahead + [list(row)] + behind, False
+        yield ahead + [row + (0,)] + behind, False
+        yield ahead + [row[:-1]] + behind, False
+        for other in ("zzzzzzzz", "", "A", None, 0, True, [row[0]], (row[0],), row[0] + "a"):
+            yield ahead + [(other,) + row[1:]] + behind, False
+        for other in ODD_THINGS:
+            yield ahead + [other] + behind, other == ("a", 1, 0) and row[0] == "a" and len(row) == 3
+    yield tuple(table), False
+    yield [table], False
+    yield table + [("zzzzzzzz",) + (0,) * (len(table[0]) - 1 if table else 2)], False
+    yield [[]] + table, False
+
+
 def star(wheel, number, mirrors):
     """An odd piece: the place m that shows this number, tied by these mirrors to a, b, c, x, y, z, all earlier ones."""
     around = "abcxyz"[:len(mirrors)]
@@ -204,17 +299,16 @@ def star(wheel, number, mirrors):
 
 def big_halls():
     """Halls of 24 places: all goings free; none free; woods with places of 6 ties, with a way home and without."""
-    letters = "abcdefghijklmnopqrstuvwx"
     # A row of five places, four of them of six ties each, with all others around them.
     spine = [("a", "b"), ("b", "c"), ("c", "d"), ("d", "e")]
-    pairs = sorted(spine + list(zip("aaaaabbbbccccddddee", letters[5:])))
+    pairs = sorted(spine + list(zip("aaaaabbbbccccddddee", LETTERS[5:])))
     for wheel in (0, 1, 7, 60):
         for face in (0, 1):
             for number in sorted({0, on_wheel(wheel, -1)}):
-                places = tuple((name, face, number) for name in letters)
+                places = tuple((name, face, number) for name in LETTERS)
                 yield (wheel, places, ())
                 yield (wheel, places, tuple((*pair, on_wheel(wheel, at)) for at, pair in enumerate(pairs)))
-                yield (wheel, places, tuple((low, high, 0) for low, high in zip(letters, letters[1:])))
+                yield (wheel, places, tuple((low, high, 0) for low, high in zip(LETTERS, LETTERS[1:])))
     for hall, row in some_halls(24, 30, (24,)):
         yield hall
         yield (hall[0], ((hall[1][0][0], 1 - hall[1][0][1], hall[1][0][2]),) + hall[1][1:], hall[2])
