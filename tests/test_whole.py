@@ -1,19 +1,23 @@
-"""What is promised over the whole: point [1], (a) to (e), and of (f) the cards laid anew."""
+"""What is promised over the whole: point [1], (a) to (g)."""
 
 import unittest
 from itertools import permutations
 
 from mirrorwood.arrows import arrows, earlier, faced, is_odd
 from mirrorwood.counts import number_of, way_at, ways
+from mirrorwood.desk import run
 from mirrorwood.errors import MayNot, NoWay
 from mirrorwood.goings import behind, gone, is_way, may_go
-from mirrorwood.halls import pieces
+from mirrorwood.halls import made, pieces
 from mirrorwood.home import bars, good, shows_bar, way_home, why_not
 from mirrorwood.likeness import parting, same_ways, signs
 from mirrorwood.mending import least_laid, shows_laid
 from mirrorwood.seats import is_order, seatings
+from mirrorwood.texts import hall_in, hall_text
 from mirrorwood.turns import latest, soonest
-from things import all_halls, halls_by_arrows, small_halls, some_halls, ways_by_trying
+from mirrorwood.wedging import least_wedged, shows_wedged, without
+from mirrorwood.yard import Yard
+from things import all_halls, halls_by_arrows, small_halls, some_halls, subsets, ways_by_trying
 
 
 def keeps_to_it(hall, row):
@@ -121,6 +125,73 @@ class Whole(unittest.TestCase):
             self.assertEqual(price == 0, way_home(hall) is not None)
             self.assertIs(shows_laid(hall, prices, price, table), True)
             self.assertIs(shows_laid(hall, prices, price + 1, table), False)
+
+    def test_f_no_less_than_the_least_price_of_places_wedged(self):
+        for hall in self.halls():
+            prices = [(name, at + 1) for at, (name, face, number) in enumerate(hall[1])]
+            price, names, table = least_wedged(hall, prices)
+            self.assertIsNotNone(way_home(without(hall, names)))
+            self.assertEqual(price == 0, way_home(hall) is not None)
+            self.assertIs(shows_wedged(hall, prices, price, table), True)
+            self.assertIs(shows_wedged(hall, prices, price + 1, table), False)
+
+    def test_g_a_yard_tells_what_a_hall_made_anew_tells(self):
+        for hall in [*list(self.halls())[::37], *[hall for hall, row in some_halls(331, 10, (5, 24))]]:
+            yard = self.yard_of(hall)
+            self.assertEqual(yard.hall(), hall)
+            for name, face, number in hall[1][:3]:
+                ahead = self.signs_of_each(yard.hall())
+                ties, names = yard.lay(name, 1 - face, number)
+                anew = self.signs_of_each(made(hall[0], yard.hall()[1][::-1], yard.hall()[2][::-1]))
+                self.assertEqual(ties, [tie[:2] for tie in hall[2] if ahead.get(tie[:2]) != anew.get(tie[:2])])
+                self.assertEqual(names, [place[0] for place in hall[1] if ahead[place[0]] != anew[place[0]]])
+            for name in hall[1][:3]:
+                yard.undo()
+            self.assertEqual(yard.hall(), hall)
+
+    def yard_of(self, hall):
+        yard = Yard(hall[0])
+        yard.do([("put", *place) for place in hall[1][::-1]])
+        yard.do([("tie", other, one, mirror) for one, other, mirror in hall[2][::-1]])
+        return yard
+
+    def signs_of_each(self, hall):
+        """Of each name its seatings, of each tie's two names its arrow, if any."""
+        found, seats = signs(hall)
+        return {**dict(seats), **{tuple(sorted(arrow)): arrow for arrow in found}}
+
+    def test_all_agree_with_all_rows_of_goings_gone_through(self):
+        homes = {}
+        for hall in all_halls(["a", "b", "c"], 2, (0, 1)):
+            homes.setdefault(hall[2], []).append((hall[1], ways_by_trying(hall)))
+        for ties, rows in homes.items():
+            for places, found in rows[::7]:
+                hall = (2, places, ties)
+                self.agree(hall, found, [other for other, others in rows if others])
+
+    def agree(self, hall, rows, homes):
+        names = [place[0] for place in hall[1]]
+        self.assertEqual((bars(hall) == [], ways(hall)), (rows != [], len(rows)))
+        self.assertEqual((way_home(hall), good(hall)), (min(rows, default=None), sorted({row[0] for row in rows})))
+        for name in names if rows else ():
+            turns = [row.index(name) + 1 for row in rows]
+            self.assertEqual((soonest(hall, name)[0], latest(hall, name)[0]), (min(turns), max(turns)))
+        for costs in ({"a": 1, "b": 1, "c": 1}, {"a": 3, "b": 0, "c": 2}):
+            prices = list(costs.items())
+            laid = [sum(costs[one[0]] for one, two in zip(hall[1], other) if one != two) for other in homes]
+            self.assertEqual(least_laid(hall, prices)[0], min(laid))
+            wedged = [sum(costs[name] for name in some) for some in subsets(names) if ways_by_trying(without(hall, some))]
+            self.assertEqual(least_wedged(hall, prices)[0], min(wedged))
+
+    def test_the_desk_tells_what_the_others_tell_of_the_hall_of_a_text(self):
+        for hall in [*list(self.halls())[::53], *[hall for hall, row in some_halls(337, 6, (9, 24))]]:
+            text = hall_text(hall)
+            sheet = text.replace("place ", "put ") + "\nhome\ngood\nmend\nwedge"
+            prices = [(place[0], 1) for place in hall[1]]
+            self.assertEqual(hall_in(text), hall)
+            self.assertEqual(run(sheet)[-4:], [
+                " ".join(way_home(hall) or []) or "-", " ".join(good(hall)) or "-",
+                str(least_laid(hall, prices)[0]), str(least_wedged(hall, prices)[0])])
 
     def test_what_is_refused_is_refused_by_its_own_class(self):
         for hall in self.halls():
